@@ -48,7 +48,7 @@ func opOf(text string) int {
 
 // op takes one of some signs or words, and is its op; 0: none of them comes next.
 func (p *parser) op(texts ...string) int {
-	if p.stuck || !p.Is(texts...) {
+	if p.Stuck() || !p.Is(texts...) {
 		return 0
 	}
 	text := p.Word().Text
@@ -58,13 +58,13 @@ func (p *parser) op(texts ...string) int {
 
 func (p *parser) exprs() []api.Expr {
 	var l []api.Expr
-	p.list(func() { l = append(l, p.expr()) })
+	p.List(func() { l = append(l, p.expr()) })
 	return l
 }
 
 // where takes what must be true of rows.
 func (p *parser) where() api.Expr {
-	if p.take("where") {
+	if p.Take("where") {
 		return p.expr()
 	}
 	return api.Expr{Op: api.XBool, N: 1}
@@ -88,7 +88,7 @@ func (p *parser) both() api.Expr {
 }
 
 func (p *parser) opposite() api.Expr {
-	if p.take("not") {
+	if p.Take("not") {
 		return p.one(api.XNot, p.opposite)
 	}
 	return p.compared()
@@ -111,7 +111,7 @@ func (p *parser) product() api.Expr {
 }
 
 func (p *parser) signed() api.Expr {
-	if p.take("-") {
+	if p.Take("-") {
 		return p.one(api.XNeg, p.signed)
 	}
 	return p.atom()
@@ -125,7 +125,7 @@ func (p *parser) one(op int, part func() api.Expr) api.Expr {
 }
 
 func (p *parser) atom() api.Expr {
-	if p.stuck {
+	if p.Stuck() {
 		return api.Expr{}
 	}
 	if w, ok := p.Kind(lex.Number); ok {
@@ -134,16 +134,16 @@ func (p *parser) atom() api.Expr {
 	if w, ok := p.Kind(lex.Text); ok {
 		return api.Expr{Op: api.XText, S: w.Text}
 	}
-	if p.take("true") {
+	if p.Take("true") {
 		return api.Expr{Op: api.XBool, N: 1}
 	}
-	if p.take("false") {
+	if p.Take("false") {
 		return api.Expr{Op: api.XBool}
 	}
 	if op := p.op("count", "sum", "min", "max"); op != 0 {
 		return p.tally(op)
 	}
-	if p.take("(") {
+	if p.Take("(") {
 		return p.inParentheses()
 	}
 	return p.variable()
@@ -153,16 +153,16 @@ func (p *parser) inParentheses() api.Expr {
 	var e api.Expr
 	p.within(func() {
 		e = p.expr()
-		p.need(")")
+		p.Need(")")
 	})
 	return e
 }
 
 // variable takes a name, or a column of a row.
 func (p *parser) variable() api.Expr {
-	e := api.Expr{Op: api.XVar, Name: p.name()}
-	if p.take(".") {
-		e.Op, e.S = api.XCol, p.name()
+	e := api.Expr{Op: api.XVar, Name: p.Name()}
+	if p.Take(".") {
+		e.Op, e.S = api.XCol, p.Name()
 	}
 	return e
 }
@@ -170,17 +170,17 @@ func (p *parser) variable() api.Expr {
 // tally takes what stands behind count, sum, min or max.
 func (p *parser) tally(op int) api.Expr {
 	e := api.Expr{Op: op}
-	p.need("(")
+	p.Need("(")
 	p.within(func() {
-		e.Name = p.name()
-		p.need("in")
-		e.Src = p.name()
+		e.Name = p.Name()
+		p.Need("in")
+		e.Src = p.Name()
 		e.Args = []api.Expr{p.where()}
 		if op != api.XCount {
-			p.need(":")
+			p.Need(":")
 			e.Args = append(e.Args, p.expr())
 		}
-		p.need(")")
+		p.Need(")")
 	})
 	return e
 }
