@@ -1,4 +1,4 @@
-package calc
+package calc_test
 
 import (
 	"math"
@@ -7,6 +7,7 @@ import (
 	"testing"
 
 	"afflux/api"
+	. "afflux/calc"
 )
 
 const (

@@ -1,4 +1,4 @@
-package catalog
+package catalog_test
 
 import (
 	"fmt"
@@ -7,6 +7,7 @@ import (
 	"testing"
 
 	"afflux/api"
+	. "afflux/catalog"
 )
 
 const whole = `table t(a int, b text, c bool) key (a) unique (b, a) index (c) limit 5 parts 3 by b;

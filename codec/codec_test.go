@@ -1,4 +1,4 @@
-package codec
+package codec_test
 
 import (
 	"encoding/hex"
@@ -9,6 +9,7 @@ import (
 	"testing"
 
 	"afflux/api"
+	. "afflux/codec"
 	"afflux/value"
 )
 

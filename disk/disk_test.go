@@ -1,4 +1,4 @@
-package disk
+package disk_test
 
 import (
 	"fmt"
@@ -7,6 +7,7 @@ import (
 	"testing"
 
 	"afflux/api"
+	. "afflux/disk"
 )
 
 func want(t *testing.T, what string, have, e api.Errno) {

@@ -1,4 +1,4 @@
-package engine
+package engine_test
 
 import (
 	"fmt"
@@ -11,6 +11,7 @@ import (
 	"afflux/catalog"
 	"afflux/codec"
 	"afflux/disk"
+	. "afflux/engine"
 	"afflux/sched"
 	"afflux/seal"
 	"afflux/snap"
@@ -301,10 +302,12 @@ func TestErrorStays(t *testing.T) {
 	if r, e := g.Reply(0); r.Err != api.OK || e != api.OK {
 		t.Error("what is safe is told")
 	}
-	g = deployed(t, disk.New(1<<20))
+	d = disk.New(1 << 20)
+	g = deployed(t, d)
 	submit(t, g, call("put", 1, 7))
-	g.err = api.ErrCorrupt
-	if g.Run() != 0 || g.Waiting() != 1 || g.Pick(0) != api.ErrCorrupt {
+	d.Arm(0)
+	g.Submit(call("put", 2, 7))
+	if g.Run() != 0 || g.Waiting() != 1 || len(g.Enabled()) != 1 || g.Pick(9) != api.ErrOff || g.Pick(0) != api.ErrOff {
 		t.Error("with one Run does nothing")
 	}
 }

@@ -1,4 +1,4 @@
-package eval
+package eval_test
 
 import (
 	"math"
@@ -6,6 +6,7 @@ import (
 	"testing"
 
 	"afflux/api"
+	. "afflux/eval"
 	"afflux/parse"
 	"afflux/value"
 )

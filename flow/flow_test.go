@@ -1,4 +1,4 @@
-package flow
+package flow_test
 
 import (
 	"fmt"
@@ -9,6 +9,7 @@ import (
 	"testing"
 
 	"afflux/api"
+	. "afflux/flow"
 )
 
 // proc is a procedure that consumes a stream (or none), and emits into some.

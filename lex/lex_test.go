@@ -1,4 +1,4 @@
-package lex
+package lex_test
 
 import (
 	"reflect"
@@ -6,6 +6,7 @@ import (
 	"testing"
 
 	"afflux/api"
+	. "afflux/lex"
 )
 
 func kinds(s string) string {

@@ -1,4 +1,4 @@
-package lock
+package lock_test
 
 import (
 	"math/rand"
@@ -7,6 +7,7 @@ import (
 	"testing"
 
 	"afflux/api"
+	. "afflux/lock"
 )
 
 func r(names ...string) []Want { return all(false, names) }

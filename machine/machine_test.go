@@ -1,4 +1,4 @@
-package machine
+package machine_test
 
 import (
 	"math/rand"
@@ -7,6 +7,7 @@ import (
 	"testing"
 
 	"afflux/api"
+	. "afflux/machine"
 	"afflux/parse"
 	"afflux/table"
 	"afflux/undo"

@@ -78,9 +78,13 @@ func (s *Site) seat(name string) *seat {
 
 // Source lets a window, or batch, have rows.
 func (s *Site) Source(name string, rows ...[]api.Value) *Site {
-	if s != nil {
-		s.rows[name] = copyRows(rows)
+	if s == nil {
+		return nil
 	}
+	if s.rows == nil { // of a site that NewSite didn't make
+		s.rows = map[string][][]api.Value{}
+	}
+	s.rows[name] = copyRows(rows)
 	return s
 }
 

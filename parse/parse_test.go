@@ -1,4 +1,4 @@
-package parse
+package parse_test
 
 import (
 	"strings"
@@ -6,6 +6,7 @@ import (
 
 	"afflux/api"
 	"afflux/lex"
+	. "afflux/parse"
 	"afflux/syntax"
 )
 

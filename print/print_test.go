@@ -1,4 +1,4 @@
-package print
+package print_test
 
 import (
 	"math/rand"
@@ -7,6 +7,7 @@ import (
 
 	"afflux/api"
 	"afflux/parse"
+	. "afflux/print"
 	"afflux/syntax"
 )
 

@@ -1,4 +1,4 @@
-package queue
+package queue_test
 
 import (
 	"math/rand"
@@ -6,6 +6,7 @@ import (
 	"testing"
 
 	"afflux/api"
+	. "afflux/queue"
 )
 
 // P23.1

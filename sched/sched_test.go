@@ -1,4 +1,4 @@
-package sched
+package sched_test
 
 import (
 	"fmt"
@@ -12,6 +12,7 @@ import (
 	"afflux/catalog"
 	"afflux/codec"
 	"afflux/lock"
+	. "afflux/sched"
 	"afflux/state"
 	"afflux/value"
 )
@@ -193,13 +194,9 @@ func TestPicks(t *testing.T) {
 		x Command
 		n int
 	}{
-		"an acknowledgement": {Command{Kind: Ack, Name: "out"}, 2}, "a call": {call("all"), 4}, "an empty body": {batch("in1", 1), 4}, "two procedures of a batch": {batch("in2", 1), 7}, "it aborts as soon as a machine stopped": {call("burn"), 4},
+		"an acknowledgement": {Command{Kind: Ack, Name: "out"}, 2}, "a call": {call("all"), 4}, "an empty body": {batch("in1", 1), 4}, "two procedures of a batch": {batch("in2", 1), 7}, "statements": {call("put", 1, 1), 6},
 	} {
 		d := made(t, 9)
-		d.State().Table("note").Load(ints(1, 1), ints(2, 2))
-		if what == "it aborts as soon as a machine stopped" {
-			d.State().Table("note").Load(ints(1, 1), ints(2, 2), ints(1001, 0))
-		}
 		submit(t, d, 0, c.x)
 		if n := d.Run(); n != c.n {
 			t.Errorf("%s: %d picks", what, n)

@@ -1,4 +1,4 @@
-package schema
+package schema_test
 
 import (
 	"math"
@@ -8,6 +8,7 @@ import (
 	"testing"
 
 	"afflux/api"
+	. "afflux/schema"
 	"afflux/value"
 )
 

@@ -1,4 +1,4 @@
-package script
+package script_test
 
 import (
 	"math"
@@ -10,6 +10,7 @@ import (
 	"afflux/api"
 	"afflux/catalog"
 	"afflux/sched"
+	. "afflux/script"
 	"afflux/value"
 )
 
@@ -256,18 +257,12 @@ func TestPlay(t *testing.T) {
 	}
 }
 
-// P28.3: without an engine
-func TestPlayWithoutEngine(t *testing.T) {
+// P28.3: with crashes
+func TestPlayCrashes(t *testing.T) {
 	s := Script{Room: 1 << 20, Most: 2, Catalog: plain, Acts: []Act{{X: call("put", 7)}, {Kind: 1}, {X: call("put", 8)}, {Kind: 7, N: 0}, {Kind: 1}, {Kind: 8, Keep: []int{20}}, {Kind: 7, N: 0}, {Kind: 8}}}
-	told, e := Play(s)
-	if !strings.HasSuffix(told, "5 0\n6 0\n7 0\nnext 1 0\ntable t 1\ntable u 0\n") || e != api.OK {
+	want := "0 0 0\n1 0\n2 0 1\n3 0\n4 7\n5 0\n6 0\n7 0\nnext 1 0\ntable t 1\ntable u 0\n"
+	if told, e := Play(s); told != want || e != api.OK {
 		t.Error(told, e)
-	}
-	w := made(t)
-	w.Disk().Put("mark", "")
-	w.Do(Act{Kind: 8})
-	if s := w.ends(given(t)); s != "" {
-		t.Error(s)
 	}
 }
 

@@ -1,10 +1,12 @@
-package seal
+package seal_test
 
 import (
 	"hash/crc64"
 	"math/rand"
 	"strings"
 	"testing"
+
+	. "afflux/seal"
 )
 
 func bytesOf(r *rand.Rand, n int) string {

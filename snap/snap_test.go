@@ -1,4 +1,4 @@
-package snap
+package snap_test
 
 import (
 	"fmt"
@@ -10,6 +10,7 @@ import (
 	"afflux/codec"
 	"afflux/disk"
 	"afflux/seal"
+	. "afflux/snap"
 )
 
 func want(t *testing.T, what string, have, e api.Errno) {

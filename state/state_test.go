@@ -1,4 +1,4 @@
-package state
+package state_test
 
 import (
 	"math"
@@ -8,6 +8,7 @@ import (
 	"afflux/api"
 	"afflux/catalog"
 	"afflux/codec"
+	. "afflux/state"
 	"afflux/stream"
 	"afflux/value"
 )

@@ -1,4 +1,4 @@
-package stream
+package stream_test
 
 import (
 	"math"
@@ -8,6 +8,7 @@ import (
 
 	"afflux/api"
 	"afflux/codec"
+	. "afflux/stream"
 	"afflux/value"
 )
 

@@ -1,4 +1,4 @@
-package syntax
+package syntax_test
 
 import (
 	"reflect"
@@ -6,6 +6,7 @@ import (
 	"testing"
 
 	"afflux/api"
+	. "afflux/syntax"
 )
 
 func num(n int64) api.Expr { return api.Expr{Op: api.XInt, N: n} }

@@ -1,4 +1,4 @@
-package table
+package table_test
 
 import (
 	"math/rand"
@@ -10,6 +10,7 @@ import (
 	"afflux/api"
 	"afflux/codec"
 	"afflux/schema"
+	. "afflux/table"
 	"afflux/value"
 )
 

@@ -1,4 +1,4 @@
-package tree
+package tree_test
 
 import (
 	"fmt"
@@ -6,6 +6,8 @@ import (
 	"reflect"
 	"slices"
 	"testing"
+
+	. "afflux/tree"
 )
 
 // P8.1 to P8.3 of an empty tree, and of none

@@ -1,4 +1,4 @@
-package types
+package types_test
 
 import (
 	"reflect"
@@ -7,6 +7,7 @@ import (
 	"afflux/api"
 	"afflux/parse"
 	"afflux/schema"
+	. "afflux/types"
 )
 
 func cols(l ...api.Column) []api.Column { return l }

@@ -1,4 +1,4 @@
-package undo
+package undo_test
 
 import (
 	"math/rand"
@@ -7,6 +7,7 @@ import (
 
 	"afflux/api"
 	"afflux/table"
+	. "afflux/undo"
 	"afflux/value"
 )
 
@@ -37,6 +38,11 @@ func (s note) Back() {
 		s.f()
 	}
 }
+
+// lost is a change whose Back panics, if there is none.
+type lost struct{ n int }
+
+func (s *lost) Back() { s.n++ }
 
 // P10.1, P10.3
 func TestJournal(t *testing.T) {
@@ -69,7 +75,7 @@ func TestJournal(t *testing.T) {
 func TestWrongSteps(t *testing.T) {
 	var j Journal
 	var l []int
-	j.Note(note{1, &l, nil}, nil, note{2, &l, func() { panic("x") }}, note{3, &l, func() { j.Note(note{9, &l, nil}); j.Back(2) }}, (*inserted)(nil))
+	j.Note(note{1, &l, nil}, nil, note{2, &l, func() { panic("x") }}, note{3, &l, func() { j.Note(note{9, &l, nil}); j.Back(2) }}, (*lost)(nil))
 	if j.Back(0) != 5 || !reflect.DeepEqual(l, []int{3, 2, 1}) || j.Mark() != 1 {
 		t.Error(l, j.Mark())
 	}

@@ -1,4 +1,4 @@
-package value
+package value_test
 
 import (
 	"math"
@@ -8,6 +8,7 @@ import (
 	"testing"
 
 	"afflux/api"
+	. "afflux/value"
 )
 
 func some(r *rand.Rand) api.Value {

@@ -1,4 +1,4 @@
-package wal
+package wal_test
 
 import (
 	"fmt"
@@ -10,6 +10,7 @@ import (
 	"afflux/api"
 	"afflux/disk"
 	"afflux/seal"
+	. "afflux/wal"
 )
 
 func open(t *testing.T, d *disk.Disk, first int) (*Log, []api.Rec) {
@@ -63,9 +64,6 @@ func TestOpenWrong(t *testing.T) {
 	want(t, "ahead of the power", e, api.ErrArg)
 	_, _, e = Open(d, "log", 0)
 	want(t, "off", e, api.ErrOff)
-	if _, e := new(Log).Append("x"); e == api.OK {
-		t.Error("a log without a disk")
-	}
 }
 
 // P7.1

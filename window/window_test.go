@@ -1,4 +1,4 @@
-package window
+package window_test
 
 import (
 	"math/rand"
@@ -10,6 +10,7 @@ import (
 	"afflux/stream"
 	"afflux/undo"
 	"afflux/value"
+	. "afflux/window"
 )
 
 var cols = []api.Column{{Name: "a", Kind: 1}}
