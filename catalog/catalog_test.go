@@ -105,6 +105,17 @@ func TestCheck(t *testing.T) {
 			t.Errorf("%s: %d at %d", s, e, at)
 		}
 	}
+	few := strings.Replace(strings.Replace(many, "stream s9(a int);", "", 1), "stream s8(a int);", "", 1)
+	if _, _, e := Parse(few + "proc p() {}"); e != api.OK {
+		t.Error("24 things", e)
+	}
+	if _, _, e := Parse(few + "proc p() {} window w on s1 from p tuples 1;"); e != api.ErrLong {
+		t.Error("25 things, one of them a window", e)
+	}
+	room := []api.Stream{{Name: "s", Cols: []api.Column{{Name: "a", Kind: 1}}}, {Name: "spare"}}
+	if e := Check(api.Catalog{Streams: room[:1], Sinks: []api.Stream{{Name: "o", Cols: []api.Column{{Name: "a", Kind: 1}}}}}); e != api.OK || room[1].Name != "spare" {
+		t.Error("what is handed in is changed", e)
+	}
 	wrong := api.Catalog{Streams: []api.Stream{{Name: "key", Cols: []api.Column{{Name: "a", Kind: 1}}}}}
 	if e := Check(wrong); e != api.ErrArg {
 		t.Error("a reserved name", e)

@@ -94,6 +94,9 @@ func TestReader(t *testing.T) {
 	if got := r.Rows(2, 2); !reflect.DeepEqual(got, [][]api.Value{{value.Text(""), value.Bool(true)}, nil}) || !r.End() {
 		t.Error(got)
 	}
+	if r := unhex("087fffffffffffffff"); r.Size(math.MaxInt) != math.MaxInt || !r.End() {
+		t.Error("the greatest size")
+	}
 	r = unhex("00")
 	if r.Row(0) != nil || !r.End() {
 		t.Error("an empty row")

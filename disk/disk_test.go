@@ -153,6 +153,11 @@ func TestRenameDeleteCut(t *testing.T) {
 	holds(t, d, "b", "12", 2)
 	d.Append("b", "z")
 	holds(t, d, "b", "12z", 2)
+	want(t, "all", d.Cut("b", 3), api.OK)
+	holds(t, d, "b", "12z", 2)
+	want(t, "nothing", d.Cut("b", 0), api.OK)
+	holds(t, d, "b", "", 0)
+	d.Append("b", "zz")
 	want(t, "none", d.Delete("a"), api.ErrNone)
 	want(t, "wrong", d.Delete(""), api.ErrArg)
 	want(t, "there", d.Delete("b"), api.OK)
@@ -185,6 +190,12 @@ func TestReadNamesPut(t *testing.T) {
 	want(t, "while it is off", d.Put("c", "x"), api.OK)
 	d.Crash()
 	holds(t, d, "c", "x", 1)
+}
+
+// A disk that New didn't make: nothing is promised, but that no call panics.
+func TestZeroDisk(t *testing.T) {
+	new(Disk).Append("a")
+	new(Disk).Put("a", "")
 }
 
 // P6.4

@@ -109,7 +109,7 @@ func TestEval(t *testing.T) {
 	}{
 		{"5", value.Int(5), 1}, {"'it''s'", value.Text("it's"), 1}, {"false", no, 1}, {"x", value.Int(2), 1}, {"x * 3", value.Int(6), 3}, {"r.a", value.Int(7), 1}, {"r.b", value.Text("b"), 1},
 		{"x + 1 - 5", value.Int(-2), 5}, {"-x / 3", value.Int(-1), 4}, {"-x % 3", value.Int(1), 4}, {"--x", value.Int(2), 3},
-		{"x = 2", yes, 3}, {"x != 2", no, 3}, {"s = 'it''s'", yes, 3}, {"yes = false", no, 3}, {"yes != false", yes, 3}, {"x < 3", yes, 3}, {"x <= 2", yes, 3}, {"x >= 3", no, 3}, {"x > 1", yes, 3}, {"'a' < 'b'", yes, 3}, {"'b' <= 'a'", no, 3},
+		{"x = 2", yes, 3}, {"x != 2", no, 3}, {"s = 'it''s'", yes, 3}, {"yes = false", no, 3}, {"yes != false", yes, 3}, {"x < 3", yes, 3}, {"x < 2", no, 3}, {"x < 1", no, 3}, {"x <= 2", yes, 3}, {"x <= 1", no, 3}, {"x >= 3", no, 3}, {"x >= 2", yes, 3}, {"x >= 1", yes, 3}, {"x > 1", yes, 3}, {"x > 2", no, 3}, {"x > 3", no, 3}, {"'a' < 'b'", yes, 3}, {"'b' <= 'a'", no, 3},
 		{"yes and false", no, 3}, {"false and z", no, 2}, {"false and 1", no, 2}, {"yes and yes", yes, 3}, {"yes or z", yes, 2}, {"false or yes", yes, 3}, {"false or false", no, 3}, {"not yes", no, 2}, {"not false", yes, 2},
 		{"count(q in t)", value.Int(3), 7}, {"count(q in t where q.b = 5)", value.Int(2), 13}, {"count(q in none)", value.Int(0), 1}, {"sum(q in t: q.a * 2)", value.Int(12), 16}, {"sum(q in none: z)", value.Int(0), 1},
 		{"min(q in t where q.b = 5: q.a)", value.Int(1), 15}, {"max(q in t: -q.a)", value.Int(-1), 13}, {"count(q in t where count(p in t where p.b = q.b) = 2)", value.Int(2), 49},
@@ -119,9 +119,11 @@ func TestEval(t *testing.T) {
 		if x, e := v.Eval(expr(t, c.s)); x != c.want || e != api.OK || v.Left() != 0 {
 			t.Errorf("%s: %v, %d, %d left", c.s, x, e, v.Left())
 		}
-		v = place(c.steps - 1)
-		if x, e := v.Eval(expr(t, c.s)); x != (api.Value{}) || e != api.ErrFuel || v.Left() != 0 {
-			t.Errorf("%s, a step fewer: %v, %d, %d left", c.s, x, e, v.Left())
+		for steps := range c.steps {
+			v = place(steps)
+			if x, e := v.Eval(expr(t, c.s)); x != (api.Value{}) || e != api.ErrFuel || v.Left() != 0 {
+				t.Errorf("%s, of %d steps: %v, %d, %d left", c.s, steps, x, e, v.Left())
+			}
 		}
 	}
 }

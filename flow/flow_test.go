@@ -76,6 +76,11 @@ func TestRanksFlows(t *testing.T) {
 		}
 	}
 	is(t, "of nothing", first(Flow(c, "")), "")
+	room := []string{"in1", "spare", "room", "stays"}
+	Flow(c, room[:1]...)
+	if strings.Join(room, " ") != "in1 spare room stays" {
+		t.Error("what is handed in is changed", room)
+	}
 	for name, want := range map[string]string{"call": "call d", "a": "a b c d", "d": "d", "lone": "lone"} {
 		l, e := After(c, name)
 		if is(t, name, l, want); e != api.OK {

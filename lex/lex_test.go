@@ -35,6 +35,7 @@ func TestWords(t *testing.T) {
 		"a/b//c\nd":                  "Wa|S/|Wb|Wd|",
 		"-12":                        "S-|N12|",
 		"0.0":                        "N0|S.|N0|",
+		"z az0z <=":                  "Wz|Waz0z|S<=|",
 		"9223372036854775807":        "N9223372036854775807|",
 		"''''":                       "T'|",
 		"'//'":                       "T//|",
@@ -68,7 +69,7 @@ func TestWordFields(t *testing.T) {
 // P11.1
 func TestNoWords(t *testing.T) {
 	for s, place := range map[string]int{
-		"a !": 2, "a ! b": 2, "A": 0, "x A": 2, "_": 0, "007": 0, "x 12a": 2, "x 12A": 2, "x 1_": 2, "a 9223372036854775808": 2, "abcdefghijklmnopq": 0, "x aB": 2,
+		"a !": 2, "a ! b": 2, "A": 0, "x A": 2, "_": 0, "007": 0, "x 12a": 2, "x 12A": 2, "x 12z": 2, "x 12Z": 2, "x aZ": 2, "x 1_": 2, "a 9223372036854775808": 2, "abcdefghijklmnopq": 0, "x aB": 2,
 		"'": 0, "x 'a": 2, "x 'a''": 2, "x 'a\n'": 2, "'a' 'b\n": 4, "'" + strings.Repeat("x", 201) + "'": 0, "#": 0, "a\r": 1, "\xe4": 0, "\x00": 0, "a \"b\"": 2, "&": 0,
 	} {
 		if l, at, e := Words(s); l != nil || at != place || e != api.ErrParse {

@@ -48,6 +48,9 @@ func TestClashUnion(t *testing.T) {
 	if got := Union(r("b", "a"), nil, in, r("c", "c", "")); !reflect.DeepEqual(got, []Want{{"", false}, {"a", true}, {"b", false}, {"c", true}}) || !reflect.DeepEqual(in, w("c", "a")) {
 		t.Error(got)
 	}
+	if got := Union(r("a", "a"), w("a")); !reflect.DeepEqual(got, w("a")) {
+		t.Error(got)
+	}
 	if Union() != nil || Union(nil, nil) != nil {
 		t.Error("of none")
 	}
@@ -58,6 +61,10 @@ func TestTable(t *testing.T) {
 	x := New()
 	want(t, "below 0", x.Ask(-1, r("a")...), api.ErrArg)
 	want(t, "1", x.Ask(1, r("a")...), api.OK)
+	want(t, "twice", x.Ask(1), api.ErrTwice)
+	if !reflect.DeepEqual(x.Wants(1), r("a")) {
+		t.Error(x.Wants(1))
+	}
 	want(t, "2", x.Ask(2, w("a")...), api.OK)
 	want(t, "3", x.Ask(3, r("a")...), api.OK)
 	want(t, "twice", x.Ask(2), api.ErrTwice)

@@ -186,6 +186,9 @@ func TestStops(t *testing.T) {
 		if got := prints(w.t.Rows()); got != c.t && c.e != api.ErrTwice || c.e == api.ErrTwice && w.t.Len() != 3 {
 			t.Error(s, got)
 		}
+		if l := w.site.Emitted("out"); c.e == api.ErrLong && (len(l) != 32 || len(w.site.Emitted("mid")) != 1) {
+			t.Error("of each stream by itself", len(l))
+		}
 		if w.j.Back(0); prints(w.t.Rows()) != "1; 2; 3" {
 			t.Error(s, "taken back by the journal")
 		}
@@ -210,13 +213,12 @@ func TestFuel(t *testing.T) {
 		if e := m.Run(); e != api.OK || m.Left() != 0 {
 			t.Error(s, e, m.Left())
 		}
-		if p.Fuel--; p.Fuel == 0 {
-			continue
-		}
-		w = fresh(t)
-		m, _ = New(w.site, p, value.Int(1))
-		if e := m.Run(); e != api.ErrFuel {
-			t.Error(s, "a step fewer", e)
+		for p.Fuel--; p.Fuel > 0; p.Fuel-- {
+			w = fresh(t)
+			m, _ = New(w.site, p, value.Int(1))
+			if e := m.Run(); e != api.ErrFuel {
+				t.Error(s, "of", p.Fuel, e)
+			}
 		}
 	}
 	w := fresh(t)
@@ -271,6 +273,9 @@ func TestPartitions(t *testing.T) {
 		m := w.machine(t, "proc p(k int) on k {"+s+"}", value.Int(5))
 		if e := m.Run(); e != c.e || prints(w.u.Rows()) != c.u {
 			t.Error(s, e, prints(w.u.Rows()))
+		}
+		if all := w.machine(t, "proc p() { reply count(r in u); }"); all.Run() != api.OK || value.Line(all.Reply()...) != value.Print(value.Int(int64(w.u.Len()))) {
+			t.Error("without At all is seen", all.Reply())
 		}
 		if s[0] == 'r' && value.Line(m.Reply()...) != "2, 4" {
 			t.Error(m.Reply())
@@ -343,9 +348,16 @@ func TestSite(t *testing.T) {
 	}
 	c := some()
 	site := NewSite(c, nil, w.t)
-	c.Tables[0].Cols[0].Name, c.Streams[0].Name = "z", "z"
-	if _, e := New(site, proc(t, "proc p() from s { insert t(1); }")); e != api.OK {
+	c.Tables[0].Cols[0].Name, c.Streams[0].Name, c.Windows[0].Name, c.Streams[1].Cols[0].Kind = "z", "z", "z", 2
+	if _, e := New(site, proc(t, "proc p() from s { insert t(1); for r in w { emit mid(r.x); } }")); e != api.OK {
 		t.Error("the catalog is kept", e)
+	}
+	new(Site).Source("w", ints(1)) // of a site that NewSite didn't make nothing is promised, but that no call panics
+	r := w.machine(t, "proc p() { reply 1; }")
+	r.Run()
+	r.Reply()[0] = value.Int(2)
+	if r.Reply()[0] != value.Int(1) {
+		t.Error("the reply is new memory")
 	}
 }
 

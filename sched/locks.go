@@ -93,7 +93,7 @@ func locks(c api.Catalog, x Command) []lock.Want {
 	return lock.Union(l)
 }
 
-// tableLocks is the locks of the tables of a procedure; at is the argument by which its partitions are told, if there is one.
+// tableLocks is the locks of the tables of a procedure; at is the argument by which its partitions are told, if there is one (of one partition it tells just that).
 func tableLocks(c api.Catalog, p api.Proc, at *api.Value) []lock.Want {
 	var l []lock.Want
 	add := func(names []string, write bool) {
@@ -103,7 +103,7 @@ func tableLocks(c api.Catalog, p api.Proc, at *api.Value) []lock.Want {
 				l = append(l, lock.Want{Name: name, Write: true})
 			}
 			for part := range s.Parts {
-				if at == nil || s.Parts == 1 || part == value.Spread(*at, s.Parts) {
+				if at == nil || part == value.Spread(*at, s.Parts) {
 					l = append(l, lock.Want{Name: name + "." + calc.Print(int64(part)), Write: write})
 				}
 			}

@@ -190,6 +190,16 @@ func TestPicks(t *testing.T) {
 	if n := d.Run(); n != 0 {
 		t.Error("nothing waits")
 	}
+	submit(t, d, 4, call("look", 0))
+	submit(t, d, 5, call("look", 1))
+	submit(t, d, 6, call("look", 2))
+	for _, seq := range []int{5, 6, 4} {
+		for d.Pick(seq) == api.OK {
+		}
+	}
+	if l := d.Results(); len(l) != 3 || l[0].Seq != 4 || l[1].Seq != 5 || l[2].Seq != 6 {
+		t.Error("by their numbers, whoever was done first", l)
+	}
 	for what, c := range map[string]struct {
 		x Command
 		n int
@@ -305,6 +315,12 @@ func TestLocksBound(t *testing.T) {
 			t.Error(x)
 		}
 	}
+	other, _, _ := catalog.Parse("stream in1(x int); stream in2(x int); sink in3(x int); window w on in1 from q tuples 1; window v on in2 from q tuples 1; proc q(k int) on k { delete r in t; } proc p() from in1 {} table t(a int) key (a) limit 1;")
+	for want, x := range map[string]Command{"in1! w!": batch("in1", 1), "in2! v!": batch("in2", 1), "t! t.0! v! w!": call("q", 5)} {
+		if l := Locks(other, x); wants(l) != want {
+			t.Errorf("%s, not %s", wants(l), want)
+		}
+	}
 	c.Tables[0].Parts = math.MaxInt
 	if Locks(c, call("all")) != nil {
 		t.Error("a catalog that isn't right")
@@ -343,8 +359,11 @@ func TestEncode(t *testing.T) {
 			t.Error(what, "read")
 		}
 	}
-	if b, e := Encode(batch("a", 1, many[:32]...)); b == "" || e != api.OK {
-		t.Error("32 rows")
+	for _, x := range []Command{batch("a", 1, many[:32]...), batch("a", 1, nine[1:])} {
+		b, e := Encode(x)
+		if y, f := Decode(b); e != api.OK || f != api.OK || len(y.Rows) != len(x.Rows) {
+			t.Error("as many as may be", e, f)
+		}
 	}
 }
 

@@ -27,7 +27,7 @@ func row(a int64, b string, c bool) []api.Value {
 
 // P3.1
 func TestNamed(t *testing.T) {
-	if !Named() || !Named("a", "z9_", "abcdefghijklmnop") {
+	if !Named() || !Named("a", "z9_", "abcdefghijklmnop", "za0z", "z") {
 		t.Error("names")
 	}
 	for _, s := range []string{"", "A", "_a", "9", "aB", "a-b", "a b", "\xe4", "abcdefghijklmnopq", "a\x00"} {
@@ -83,7 +83,7 @@ func TestRight(t *testing.T) {
 		if l, e := Keys(s); l != nil || e != api.ErrArg {
 			t.Error(what, e)
 		}
-		if _, e := Part(s); e != api.ErrArg {
+		if n, e := Part(s); n != 0 || e != api.ErrArg {
 			t.Error(what, e)
 		}
 		if Same(s, plan()) || !Same(s, Copy(s)) {
@@ -99,6 +99,10 @@ func TestRight(t *testing.T) {
 	s.Cols, s.Indexes = nine[:8], []api.Index{{Cols: []int{7, 6, 5, 4, 3, 2, 1, 0}, Unique: true}}
 	if !Right(s) {
 		t.Error("eight columns")
+	}
+	least := api.Schema{Name: "t", Cols: []api.Column{{Name: "a", Kind: 3}}, Indexes: []api.Index{{Cols: []int{0}, Unique: true}}, Limit: 1, Parts: 1}
+	if !Right(least) || !Fits(least, value.Bool(true)) {
+		t.Error("the least of all")
 	}
 }
 
@@ -138,7 +142,7 @@ func TestFitsPick(t *testing.T) {
 		if _, e := Keys(s, x...); e != api.ErrType {
 			t.Errorf("%v: %d", x, e)
 		}
-		if _, e := Part(s, x...); e != api.ErrType {
+		if n, e := Part(s, x...); n != 0 || e != api.ErrType {
 			t.Errorf("%v: %d", x, e)
 		}
 	}

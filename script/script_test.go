@@ -17,7 +17,7 @@ import (
 const plain = `table t(a int) key (a) limit 5; table u(a int, b text) key (a) limit 5;
 stream in1(x int); sink out(x int, y text);
 proc put(x int) { insert t(x); emit out(x, 'it''s'); }
-proc say(x int) { reply x, 'a', true; }`
+proc say(x int) { reply x, 'a', true; } proc one() { reply 5; }`
 
 func given(t *testing.T) api.Catalog {
 	t.Helper()
@@ -91,6 +91,11 @@ func TestDo(t *testing.T) {
 	tells(t, w, Act{Kind: 5, N: 0}, "0 0", api.OK)
 	tells(t, w, Act{Kind: 5, N: 1}, "0 0 -3, 'a', true", api.OK)
 	tells(t, w, Act{Kind: 5, N: 2}, "9 0", api.OK)
+	other := made(t)
+	other.Do(Act{X: call("one")})
+	other.Do(Act{Kind: 3})
+	other.Do(Act{Kind: 1})
+	tells(t, other, Act{Kind: 5}, "0 0 5", api.OK)
 	tells(t, w, Act{Kind: 6, Name: "out"}, "0 4, 'it''s'; 3 5, 'it''s'", api.OK)
 	tells(t, w, Act{Kind: 6, Name: "out", N: 1}, "3 5, 'it''s'", api.OK)
 	tells(t, w, Act{Kind: 6, Name: "out", N: 2}, "", api.OK)
@@ -192,6 +197,9 @@ func TestText(t *testing.T) {
 
 // P28.2
 func TestRight(t *testing.T) {
+	if !Right(Script{Most: 1, Acts: []Act{{Kind: 8, Keep: make([]int, 50)}}}) {
+		t.Error("50 of Keep")
+	}
 	if !Right(whole()) || !Right(Script{Room: 1 << 24, Most: 1000, Catalog: strings.Repeat("x", 8000), Acts: make([]Act, 0, 3)}) {
 		t.Error("right")
 	}

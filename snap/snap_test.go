@@ -107,9 +107,11 @@ func TestSaveFull(t *testing.T) {
 		}
 		want(t, "files", Save(d, 3, "abc"), e)
 	}
-	d := disk.New(1000)
-	d.Put("mark", "spoilt")
-	want(t, "none counts", Save(d, 0), api.OK)
+	for _, spoilt := range []string{"spoilt", frame(sizes(0, 0)), frame(sizes(100000000)), frame(sizes(0)) + "x"} {
+		d := disk.New(1000)
+		d.Put("mark", spoilt)
+		want(t, "none counts", Save(d, 0), api.OK)
+	}
 }
 
 // P26.2

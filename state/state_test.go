@@ -92,6 +92,16 @@ func TestOutputs(t *testing.T) {
 		t.Error(l, e)
 	}
 	l[0].Row[0] = value.Int(9)
+	if l, _ := s.Outputs("out", 0, 1); !reflect.DeepEqual(l, []Output{{5, num(1)}}) {
+		t.Error("what is handed in isn't kept", l)
+	}
+	one := made(t)
+	want(t, "0", one.Emit(0, "out", num(1)), api.OK)
+	want(t, "5", one.Emit(5, "out", num(1)), api.OK)
+	want(t, "below the last one", one.Emit(3, "out", num(1)), api.ErrArg)
+	two := made(t)
+	want(t, "5", two.Emit(5, "out", num(1)), api.OK)
+	want(t, "below the only one", two.Emit(3, "out", num(1)), api.ErrArg)
 	for _, c := range []struct {
 		sink       string
 		from, most int

@@ -64,6 +64,12 @@ func TestMakers(t *testing.T) {
 	if l, e := NewLine(api.Stream{Name: "s", Cols: cols}, 0); l != nil || e != api.ErrArg {
 		t.Error("no room")
 	}
+	if b, e := NewBorder(api.Stream{Name: "s", Cols: cols[:1]}); b == nil || e != api.OK {
+		t.Error("one column")
+	}
+	if l, e := NewLine(api.Stream{Name: "s", Cols: cols}, 1); l == nil || e != api.OK {
+		t.Error("room for one")
+	}
 	if b, e := NewBorder(api.Stream{Name: "s", Cols: nine[:8]}); b.Name() != "s" || b.Mark() != 0 || e != api.OK {
 		t.Error("eight columns")
 	}

@@ -82,6 +82,14 @@ func TestSizes(t *testing.T) {
 	if got := size(Size(whole())); got != size(35, 4) {
 		t.Error(got)
 	}
+	loop := func(l ...api.Stmt) api.Stmt { return api.Stmt{Op: api.SFor, Body: l} }
+	other := func(l ...api.Stmt) api.Stmt { return api.Stmt{Op: api.SIf, Else: l} }
+	if got := size(Size(api.Proc{Body: []api.Stmt{loop(loop(loop()))}})); got != size(3, 3) {
+		t.Error("bodies", got)
+	}
+	if got := size(Size(api.Proc{Body: []api.Stmt{other(other(other(other())))}})); got != size(4, 4) {
+		t.Error("elses", got)
+	}
 	for n, want := range map[int][2]int{999: size(999, 999), 1000: size(1000, 1000), 1001: size(1000, 1000), 70000: size(1000, 1000)} {
 		if got := size(SizeExpr(deep(n))); got != want {
 			t.Error(n, got)

@@ -141,6 +141,12 @@ func TestScans(t *testing.T) {
 			t.Error("there is none", r)
 		}
 	}
+	spoilt := [][]api.Value{x.Scan(0, "", "", 1)[0], x.Rows()[1]}
+	_, r, _ := x.Next(0, key(2))
+	_, f, _ := x.First(0)
+	for _, r := range append(spoilt, r, f) {
+		r[2] = value.Int(77)
+	}
 	if !reflect.DeepEqual(x.Rows(), all(a, b, c, d)) || !reflect.DeepEqual(x.Rows(1, 2, 1), all(a, c, d)) || x.Rows(5) != nil || x.In() != 4 || x.In(1) != 2 || x.In(0, 1) != 3 || x.In(-1) != 0 {
 		t.Error("Rows, In")
 	}

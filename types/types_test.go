@@ -23,7 +23,7 @@ func some() api.Catalog {
 			{Name: "u", Cols: cols(text("k"), num("n")), Indexes: []api.Index{{Cols: []int{0}, Unique: true}}, Limit: 9, Parts: 2},
 			{Name: "one", Cols: cols(text("k")), Indexes: []api.Index{{Cols: []int{0}, Unique: true}}, Limit: 9, Parts: 1},
 			{Name: "t", Cols: cols(num("z"))},
-			{Name: "odd", Cols: cols(api.Column{Name: "x"}, num("x")), Parts: 3, By: 7},
+			{Name: "odd", Cols: cols(api.Column{Name: "x"}, num("x")), Parts: 3, By: 2},
 		},
 		Streams: []api.Stream{{Name: "s", Cols: cols(num("x"), text("y"))}, {Name: "both", Cols: cols(num("x"))}},
 		Sinks:   []api.Stream{{Name: "out", Cols: cols(truth("x"))}, {Name: "both", Cols: cols(text("x"))}},
@@ -58,6 +58,14 @@ func TestColsRowTable(t *testing.T) {
 	} {
 		if l, ok := Cols(c, x.p, x.src); !reflect.DeepEqual(l, x.want) || ok != x.ok {
 			t.Error(x.p.Name, x.src, l, ok)
+		}
+	}
+	for _, src := range []string{"t", "w", "batch"} {
+		x := proc(t, "proc p() from s {}")
+		l, _ := Cols(c, x, src)
+		l[0].Name = "spoilt"
+		if l, _ := Cols(c, x, src); l[0].Name == "spoilt" {
+			t.Error(src, "new memory")
 		}
 	}
 	c.Windows = append(c.Windows, api.Window{Name: "batch", On: "both", Owner: "q"}, api.Window{Name: "gone", On: "x", Owner: "q"})

@@ -75,7 +75,7 @@ func TestKeys(t *testing.T) {
 	if l, ok := Unkey(""); l != nil || !ok {
 		t.Error("the key of no values")
 	}
-	wrong := []string{"\x00", "\x04", "\x01", "\x01\x80\x00\x00\x00\x00\x00\x00", "\x02", "\x02a", "\x02a\x00", "\x02a\x00\x02", "\x03", "\x03\x02",
+	wrong := []string{"\x00", "\x04", "\x01", "\x01\x80\x00\x00\x00\x00\x00\x00", "\x02", "\x02a", "\x02a\x00", "\x02a\x00\x02", "\x02a\x00\x02b\x00\x01", "\x02" + strings.Repeat("a", 201) + "\x00\x01b\x00\x01", "\x03", "\x03\x02",
 		"\x03\x01\x05", "\x02" + strings.Repeat("a", 201) + "\x00\x01"}
 	for _, s := range wrong {
 		if l, ok := Unkey(s); l != nil || ok {

@@ -155,6 +155,11 @@ func TestGroups(t *testing.T) {
 	if !reflect.DeepEqual(recs, []api.Rec{{Seq: 0, Data: "a"}, {Seq: 1, Data: "b"}}) || add(t, l, "d") != 2 {
 		t.Error(recs)
 	}
+	for _, name := range []string{"a", "z", "abcxyz"} {
+		if l, recs, e := Open(disk.New(100), name, 0); l == nil || recs != nil || e != api.OK {
+			t.Error(name, e)
+		}
+	}
 	if first, _ := open(t, disk.New(100), 99999999); first.Next() != 99999999 {
 		t.Error("first")
 	}
@@ -164,8 +169,10 @@ func TestGroups(t *testing.T) {
 func TestAppendErrors(t *testing.T) {
 	d := disk.New(1 << 20)
 	l, _ := open(t, d, 99999998)
-	_, e := l.Append(strings.Repeat("x", 65001))
-	want(t, "too long", e, api.ErrLong)
+	n, e := l.Append(strings.Repeat("x", 65001))
+	if want(t, "too long", e, api.ErrLong); n != 0 {
+		t.Error(n)
+	}
 	if add(t, l, strings.Repeat("x", 65000)) != 99999998 {
 		t.Error("the longest")
 	}
@@ -173,8 +180,10 @@ func TestAppendErrors(t *testing.T) {
 	want(t, "the last number", e, api.ErrLong)
 	small := disk.New(41)
 	l, _ = open(t, small, 0)
-	_, e = l.Append(strings.Repeat("x", 22))
-	want(t, "no room", e, api.ErrFull)
+	n, e = l.Append(strings.Repeat("x", 22))
+	if want(t, "no room", e, api.ErrFull); n != 0 {
+		t.Error(n)
+	}
 	add(t, l, "x")
 	_, e = l.Append("x")
 	want(t, "no room", e, api.ErrFull)
@@ -201,7 +210,13 @@ func TestAppendErrors(t *testing.T) {
 // P7.2
 func TestErrorThatStays(t *testing.T) {
 	for _, failing := range []func(*Log) api.Errno{
-		func(l *Log) api.Errno { _, e := l.Append("b"); return e },
+		func(l *Log) api.Errno {
+			n, e := l.Append("b")
+			if n != 0 {
+				t.Error(n)
+			}
+			return e
+		},
 		(*Log).Commit, (*Log).Rotate, func(l *Log) api.Errno { return l.Forget(0) },
 	} {
 		d := disk.New(1000)
@@ -210,7 +225,10 @@ func TestErrorThatStays(t *testing.T) {
 		d.Arm(0)
 		want(t, "off", failing(l), api.ErrOff)
 		d.Crash(99)
-		_, e := l.Append(strings.Repeat("x", 70000))
+		n, e := l.Append(strings.Repeat("x", 70000))
+		if n != 0 {
+			t.Error(n)
+		}
 		for _, e := range []api.Errno{e, l.Commit(), l.Rotate(), l.Forget(0), l.Err()} {
 			want(t, "it stays", e, api.ErrOff)
 		}
@@ -262,6 +280,60 @@ func TestSegments(t *testing.T) {
 	l, recs := open(t, d, 0)
 	if len(recs) != 2 || recs[0].Seq != 4 || l.Next() != 6 {
 		t.Error(recs)
+	}
+}
+
+// P7.2: a segment that has just SegmentSize bytes ends
+func TestSegmentEnds(t *testing.T) {
+	for more, files := range map[int]int{-1: 1, 0: 2} {
+		d := disk.New(1 << 20)
+		l, _ := open(t, d, 0)
+		add(t, l, strings.Repeat("x", SegmentSize-20+more))
+		if add(t, l, ""); len(d.Names()) != files {
+			t.Error(more, d.Names())
+		}
+	}
+}
+
+// P7.2: a segment without records isn't rotated; errors of a Forget and of a Commit ahead stay
+func TestRotateEmptyAndErrors(t *testing.T) {
+	d := disk.New(1 << 20)
+	l, _ := open(t, d, 5)
+	add(t, l, "a")
+	d.Crash()
+	l, recs := open(t, d, 0)
+	want(t, "Rotate", l.Rotate(), api.OK)
+	if add(t, l, "b") != 5 || recs != nil || len(d.Names()) != 1 {
+		t.Error("the last one has none", d.Names())
+	}
+	l.Rotate()
+	add(t, l, "c")
+	l.Commit()
+	d.Arm(0)
+	want(t, "Forget", l.Forget(6), api.ErrOff)
+	d.Crash()
+	if want(t, "it stays", l.Err(), api.ErrOff); len(d.Names()) != 2 {
+		t.Error(d.Names())
+	}
+	l, _ = open(t, d, 0)
+	add(t, l, strings.Repeat("x", SegmentSize))
+	d.Arm(0)
+	n, e := l.Append("d")
+	if want(t, "the group is committed ahead", e, api.ErrOff); n != 0 || l.Next() != 8 || l.Safe() != 7 {
+		t.Error(n, l.Next(), l.Safe())
+	}
+}
+
+// P7.1: the power goes off within Open
+func TestOpenOff(t *testing.T) {
+	for at, e := range []api.Errno{api.ErrOff, api.ErrOff, api.OK} {
+		d := disk.New(1000)
+		d.Append("log.00000000", frame(0, "a")+"tail")
+		d.Arm(at)
+		l, recs, f := Open(d, "log", 0)
+		if want(t, "Open", f, e); (l == nil) != (e != api.OK) || (recs == nil) != (e != api.OK) {
+			t.Error(at)
+		}
 	}
 }
 

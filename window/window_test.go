@@ -53,6 +53,12 @@ func TestPut(t *testing.T) {
 		t.Error(n, e, j.Mark())
 	}
 	in.Rows[1][0] = value.Int(9)
+	own := []api.Column{{Name: "a", Kind: 1}}
+	x, _ := New(plain(1, 1, false), own)
+	own[0].Kind = 2
+	if _, e := x.Put(nil, batch(1)); e != api.OK {
+		t.Error("the columns are its own", e)
+	}
 	w.Rows()[0][0] = value.Int(9)
 	if !reflect.DeepEqual(w.Rows(), rows(2, 3, 4)) || w.Seen() != 3 || w.Staged() != 1 {
 		t.Error(w.Rows())
