@@ -201,17 +201,7 @@ func (w *writer) list(n int, one func(i int)) {
 }
 
 func (w *writer) columns(l []api.Column) {
-	w.list(len(l), func(i int) { w.put(l[i].Name, " ", kindWord(l[i].Kind)) })
-}
-
-func kindWord(kind int) string {
-	switch kind {
-	case api.KInt:
-		return "int"
-	case api.KText:
-		return "text"
-	}
-	return "bool"
+	w.list(len(l), func(i int) { w.put(l[i].Name, " ", walk.KindWord(l[i].Kind)) })
 }
 
 func (w *writer) stream(word string, s api.Stream) {

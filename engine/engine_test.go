@@ -110,16 +110,20 @@ func TestDeploy(t *testing.T) {
 	if _, e := Deploy(d, broken, 1); e != api.ErrArg || d.Names() != nil {
 		t.Error("Print's error", e)
 	}
-	for _, file := range []string{"mark", "log.00000007"} {
+	for _, file := range []string{"mark", "log.00000007", "log.99999999"} {
 		x := disk.New(1 << 20)
 		x.Put(file, "")
 		if g, e := Deploy(x, api.Catalog{Procs: []api.Proc{{}}}, 1); g != nil || e != api.ErrTwice {
 			t.Error(file, e)
 		}
 	}
+	if g, e := Deploy(disk.New(1<<20), given(t), 1000); g == nil || e != api.OK {
+		t.Error("room for 1000", e)
+	}
 	d.Put("log.x", "")
+	d.Put("log.000000a0", "")
 	g := deployed(t, d)
-	if g.Next() != 0 || g.Safe() != 0 || g.Waiting() != 0 || g.Err() != api.OK || !catalog.Same(g.State().Catalog(), given(t)) || !reflect.DeepEqual(d.Names(), []string{"log.x", "mark", "s.00000000"}) {
+	if g.Next() != 0 || g.Safe() != 0 || g.Waiting() != 0 || g.Err() != api.OK || !catalog.Same(g.State().Catalog(), given(t)) || !reflect.DeepEqual(d.Names(), []string{"log.000000a0", "log.x", "mark", "s.00000000"}) {
 		t.Error(d.Names())
 	}
 	n, data, e := snap.Load(d)
@@ -145,10 +149,10 @@ func TestCommands(t *testing.T) {
 	if n := submit(t, g, call("put", 1, 7)); n != 0 || g.Next() != 1 || g.Safe() != 0 || g.Waiting() != 1 || len(g.Enabled()) != 1 {
 		t.Error("accepted", n)
 	}
-	if _, e := g.Submit(call("put", 1)); e != api.ErrType {
+	if n, e := g.Submit(call("put", 1)); n != 0 || e != api.ErrType {
 		t.Error("Check's error", e)
 	}
-	if _, e := g.Submit(sched.Command{Kind: sched.Call, Id: -1, Name: "put", Rows: [][]api.Value{ints(1, 1)}}); e != api.ErrArg {
+	if n, e := g.Submit(sched.Command{Kind: sched.Call, Id: -1, Name: "put", Rows: [][]api.Value{ints(1, 1)}}); n != 0 || e != api.ErrArg {
 		t.Error("Encode's error", e)
 	}
 	_, e := g.Reply(0)
@@ -157,8 +161,8 @@ func TestCommands(t *testing.T) {
 	want(t, "none", e, api.ErrNone)
 	want(t, "Pick", g.Pick(1), api.ErrNone)
 	want(t, "Pick", g.Pick(0), api.OK)
-	if n := g.Run(); n != 5 {
-		t.Error(n)
+	if want(t, "Pick", g.Pick(0, 0, 0, 0, 0), api.OK); g.Waiting() != 0 || g.Run() != 0 {
+		t.Error("it is done")
 	}
 	_, e = g.Reply(0)
 	want(t, "it isn't safe", e, api.ErrBusy)
@@ -212,7 +216,10 @@ func TestFull(t *testing.T) {
 	g := deployed(t, disk.New(2000))
 	n := 0
 	for ; n < 100; n++ {
-		if _, e := g.Submit(batch(n+1, 1)); e != api.OK {
+		if no, e := g.Submit(batch(n+1, 1)); e != api.OK {
+			if no != 0 {
+				t.Error(no)
+			}
 			want(t, "no room", e, api.ErrFull)
 			break
 		}
@@ -294,8 +301,10 @@ func TestErrorStays(t *testing.T) {
 	g.Run()
 	d.Arm(3)
 	want(t, "within Save", g.Snapshot(), api.ErrOff)
-	_, e := g.Submit(call("get", 1))
-	want(t, "within Save", e, api.ErrOff)
+	n, e := g.Submit(call("get", 1))
+	if want(t, "within Save", e, api.ErrOff); n != 0 {
+		t.Error(n)
+	}
 	if g.Err() != api.ErrOff || g.Run() != 0 || g.State().Table("t").Len() != 1 {
 		t.Error("it stays")
 	}
@@ -346,6 +355,11 @@ func TestOpenWhatLies(t *testing.T) {
 	}
 	if _, e := Open(disk.New(1), 1001); e != api.ErrArg {
 		t.Error("too much room")
+	}
+	wide := disk.New(1 << 20)
+	deployed(t, wide)
+	if g, e := Open(wide, 1000); g == nil || e != api.OK {
+		t.Error("room for 1000", e)
 	}
 	printed, _ := catalog.Print(given(t))
 	first, _ := state.New(given(t))

@@ -1,4 +1,4 @@
-// Package walk goes through the words of a text, for the layers that read texts; once it can't go on, it takes none any more.
+// Package walk goes through the words of a text, for the layers that read and write texts; once it can't go on, it takes none any more.
 package walk
 
 import (
@@ -70,18 +70,26 @@ func (w *Walker) Number(least int64) int {
 	return int(x.N)
 }
 
+// KindWord is the word of a column's kind.
+func KindWord(kind int) string {
+	switch kind {
+	case api.KInt:
+		return "int"
+	case api.KText:
+		return "text"
+	}
+	return "bool"
+}
+
 // Column takes a name and a kind.
 func (w *Walker) Column() api.Column {
 	c := api.Column{Name: w.Name()}
-	switch {
-	case w.Take("int"):
-		c.Kind = api.KInt
-	case w.Take("text"):
-		c.Kind = api.KText
-	case w.Take("bool"):
-		c.Kind = api.KBool
-	default:
-		w.Stop()
+	for kind := api.KInt; kind <= api.KBool; kind++ {
+		if w.Take(KindWord(kind)) {
+			c.Kind = kind
+			return c
+		}
 	}
+	w.Stop()
 	return c
 }
