@@ -17,7 +17,7 @@ func (m *Machine) do(s api.Stmt) api.Errno {
 	case api.SUpdate:
 		return m.update(s)
 	case api.SDelete:
-		return m.delete(s)
+		return m.remove(s)
 	case api.SFor:
 		return m.loop(s)
 	}
@@ -171,7 +171,7 @@ func (m *Machine) update(s api.Stmt) api.Errno {
 	return e
 }
 
-func (m *Machine) delete(s api.Stmt) api.Errno {
+func (m *Machine) remove(s api.Stmt) api.Errno {
 	t := m.sources[s.Src].seat
 	var l []string
 	e := m.each(s, 0, func(row []api.Value) api.Errno {
