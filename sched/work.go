@@ -26,14 +26,14 @@ type stage struct {
 // work is a command that isn't done.
 type work struct {
 	stage
-	command Command
+	Command
 	state   *state.State
 	catalog api.Catalog
 	result  Result
 }
 
 func newWork(seq int, x Command, s *state.State, c api.Catalog) *work {
-	w := &work{command: x, state: s, catalog: c, result: Result{Seq: seq}}
+	w := &work{Command: x, state: s, catalog: c, result: Result{Seq: seq}}
 	w.procs, w.turned = procedures(c, x), map[string]int{}
 	w.site = machine.NewSite(c, &w.journal, s.Tables()...)
 	return w
@@ -57,13 +57,13 @@ func (w *work) step() bool {
 
 // isSource tells whether a stream is the one that a batch came by.
 func (w *work) isSource(name string) bool {
-	return w.command.Kind == Batch && w.command.Name == name
+	return w.Kind == Batch && w.Name == name
 }
 
 // rows is the rows of a stream.
 func (w *work) rows(name string) [][]api.Value {
 	if w.isSource(name) {
-		return w.command.Rows
+		return w.Rows
 	}
 	var l [][]api.Value
 	for _, o := range w.site.Emitted(name) {
@@ -78,7 +78,7 @@ func (w *work) begin() bool {
 		p, _ := catalog.Proc(w.catalog, w.procs[0])
 		w.procs = w.procs[1:]
 		if p.From == "" {
-			w.start(p, w.command.Rows[0])
+			w.start(p, w.Rows[0])
 			return true
 		}
 		w.turn(p.From)
@@ -112,8 +112,8 @@ func (w *work) turn(name string) {
 		return
 	}
 	id := 1
-	if w.command.Kind == Batch {
-		id = w.command.Id
+	if w.Kind == Batch {
+		id = w.Id
 	}
 	var on []string
 	for _, x := range w.catalog.Windows {
@@ -141,11 +141,11 @@ func (w *work) commit() {
 		w.state.Emit(w.result.Seq, o.Stream, o.Row)
 	}
 	w.journal.Keep()
-	switch w.command.Kind {
+	switch w.Kind {
 	case Call:
 		w.result.Reply = w.first.Reply()
 	case Ack:
-		w.result.Err = w.state.Ack(w.command.Name, w.command.Id)
+		w.result.Err = w.state.Ack(w.Name, w.Id)
 	}
 }
 
