@@ -69,18 +69,30 @@ func TestText(t *testing.T) {
 
 // P21.1: the place is marked with ^
 func TestParseErrors(t *testing.T) {
-	for _, s := range []string{"^x", "^;", "table^", "table ^1", "table ^key", "table t^", "table t ^key", "table t(^)", "table t(a^", "table t(a ^x)", "table t(a int^", "table t(a int,^)", "table t(a int) ^limit 5;", "table t(a int) key ^a", "table t(a int) key (^) limit 5;", "table t(a int) key (^b) limit 5;",
-		"table t(a int) key (a^", "table t(a int) key (a) unique (a, ^z)", "table t(a int) key (a) index ^limit", "table t(a int) key (a) ^;", "table t(a int) key (a) limit ^x", "table t(a int) key (a) limit 5^", "table t(a int) key (a) limit 5 parts 1 ^;", "table t(a int) key (a) limit 5 parts 1 by ^b;", "table t(a int) key (a) limit 5 ^by a;",
+	for _, s := range []string{"^x", "^;", "table^", "table ^1", "table ^key", "table t^", "table t ^key", "table t(^)", "table t(a^", "table t(a ^x)", "table t(a int^", "table t(a int,^)", "table t(a int) ^limit 5;", "table t(a int) key ^a", "table t(a int) key (^) limit 5;", "table t(a int) key (a^", "table t(a int) key (a) index ^limit", "table t(a int) key (a) ^;", "table t(a int) key (a) limit ^x", "table t(a int) key (a) limit 5^", "table t(a int) key (a) limit 5 parts 1 ^;", "table t(a int) key (a) limit 5 ^by a;",
 		"table t(a int) key (a) limit ^-5;", "stream s ^;", "stream s(^);", "stream s(a int) ^key", "stream ^stream(a int);", "sink s(x ^where);", "sink s(x int) ^}", "window w ^from p", "window w on ^1", "window w on s from p ^5", "window w on s from p tuples ^;", "window w on s from p batches 5 ^6;", "window w on s from p tuples 5 slide ^;",
 		"proc^", "proc p() { reply ^; }", "proc p() {} ^}", "proc p() fuel 0 {} ^table", "proc p() fuel 0 {}^", "stream s(a int); proc p() { ^!", "proc p() { reply " + strings.Repeat("(", 60) + "^1", "proc p() { let ^by = 1; }"} {
-		place := strings.Index(s, "^")
-		c, at, e := Parse(s[:place] + s[place+1:])
-		if e != api.ErrParse || at != place || !Same(c, api.Catalog{}) {
-			t.Errorf("%s: %d at %d", s, e, at)
-		}
+		stands(t, s)
 	}
 	if _, at, e := Parse(strings.Repeat(" ", 8001)); at != 0 || e != api.ErrLong {
 		t.Error("too long", e)
+	}
+}
+
+// stands tells whether a text can't go on where ^ stands.
+func stands(t *testing.T, s string) {
+	t.Helper()
+	place := strings.Index(s, "^")
+	c, at, e := Parse(s[:place] + s[place+1:])
+	if e != api.ErrParse || at != place || !Same(c, api.Catalog{}) {
+		t.Errorf("%s: %d at %d", s, e, at)
+	}
+}
+
+// P21.1: where a column's name must stand, no other one can
+func TestColumnNames(t *testing.T) {
+	for _, s := range []string{"table t(a int) key (^b) limit 5;", "table t(a int) key (a) unique (a, ^z)", "table t(a int) key (a) limit 5 parts 1 by ^b;"} {
+		stands(t, s)
 	}
 }
 

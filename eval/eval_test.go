@@ -134,7 +134,7 @@ func TestErrors(t *testing.T) {
 		"z": api.ErrType, "r": api.ErrType, "x.a": api.ErrType, "z.a": api.ErrType, "r.c": api.ErrType, "t": api.ErrType, "count(q in z)": api.ErrType, "count(q in r)": api.ErrType,
 		"9223372036854775807 + 1": api.ErrRange, "-9223372036854775807 - x": api.ErrRange, "x / 0": api.ErrZero, "x % 0": api.ErrZero, "9223372036854775807 * x": api.ErrRange,
 		"s + x / 0": api.ErrZero, "x / 0 + z": api.ErrZero, "z + x / 0": api.ErrType, "s = x / 0": api.ErrZero, "s + x": api.ErrType, "yes + yes": api.ErrType, "-s": api.ErrType, "-yes": api.ErrType, "-(x / 0)": api.ErrZero,
-		"x = s": api.ErrType, "x < yes": api.ErrType, "yes < yes": api.ErrType, "yes >= false": api.ErrType, "not x": api.ErrType, "x and yes": api.ErrType, "yes and x": api.ErrType, "false or s": api.ErrType, "x or yes": api.ErrType, "yes and x / 0 = 1": api.ErrZero,
+		"x = s": api.ErrType, "x < yes": api.ErrType, "not x": api.ErrType, "x and yes": api.ErrType, "yes and x": api.ErrType, "false or s": api.ErrType, "x or yes": api.ErrType, "yes and x / 0 = 1": api.ErrZero,
 		"count(q in t where q.a)": api.ErrType, "count(q in t where q.z = 1)": api.ErrType, "sum(q in t: yes)": api.ErrType, "min(q in none: 1)": api.ErrNone, "max(q in t where false: 1)": api.ErrNone, "sum(q in t: 9223372036854775807)": api.ErrRange,
 		"sum(q in t: q.a / (q.a - 3))": api.ErrZero, "count(q in t) + q.a": api.ErrType,
 	} {
@@ -155,6 +155,15 @@ func TestErrors(t *testing.T) {
 	}
 	if l, e := v.All(); l != nil || e != api.OK {
 		t.Error("All of none")
+	}
+}
+
+// P16.2: truths are held against each other by = and != alone (15)
+func TestTruthsInOrder(t *testing.T) {
+	for _, s := range []string{"yes < yes", "yes <= false", "yes >= false", "false > yes"} {
+		if x, e := place(99).Eval(expr(t, s)); x != (api.Value{}) || e != api.ErrType {
+			t.Errorf("%s: %v, %d", s, x, e)
+		}
 	}
 }
 

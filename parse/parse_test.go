@@ -103,9 +103,9 @@ func TestProc(t *testing.T) {
 
 // P13.1: the place of the first word with which it can't go on is marked with ^
 func TestParseErrors(t *testing.T) {
-	for _, s := range []string{"^", "proc^", "proc ^1", "proc ^if() {}", "proc p^", "proc p(^", "proc p(x ^)", "proc p(x int^", "proc p(x int,^) {}", "proc p(x int ^y int) {}", "proc p(x ^key) {}", "proc p() on^", "proc p() on ^1 {}",
+	for _, s := range []string{"^", "proc^", "proc ^1", "proc p^", "proc p(^", "proc p(x ^)", "proc p(x int^", "proc p(x int,^) {}", "proc p(x int ^y int) {}", "proc p() on^", "proc p() on ^1 {}",
 		"proc p() from s ^on x {}", "proc p() fuel ^x {}", "proc p() fuel ^-1 {}", "proc p() fuel 5 ^from s {}", "proc p() ^;", "proc p() {^", "proc p() {} ^}", "^x", "proc p() { ^; }", "proc p() { ^x = 1; }", "proc p() { let ^1 = 1; }",
-		"proc p() { let ^true = 1; }", "proc p() { let x ^1; }", "proc p() { let x = ^; }", "proc p() { let x = 1 ^}", "proc p() { let x = 1 ^2; }", "proc p() { insert ^(1); }", "proc p() { insert t ^1; }", "proc p() { insert t(^); }", "proc p() { insert t(1,^); }",
+		"proc p() { let x ^1; }", "proc p() { let x = ^; }", "proc p() { let x = 1 ^}", "proc p() { let x = 1 ^2; }", "proc p() { insert ^(1); }", "proc p() { insert t ^1; }", "proc p() { insert t(^); }", "proc p() { insert t(1,^); }",
 		"proc p() { insert t(1 ^; }", "proc p() { update r ^t set a = 1; }", "proc p() { update r in t ^a = 1; }", "proc p() { update r in t set ^1 = 1; }", "proc p() { update r in t set a = 1,^; }", "proc p() { update r in t where 1 ^; }",
 		"proc p() { delete r in t ^limit 1; }", "proc p() { for r in t limit ^0 {} }", "proc p() { for r in t limit ^x {} }", "proc p() { for r in t limit 1 ^where x {} }", "proc p() { for r in t ^; }", "proc p() { if ^{} }", "proc p() { if x {} else ^if y {} }",
 		"proc p() { if x {} ^; }", "proc p() { reply ^; }", "proc p() { abort 1^, 2; }", "proc p() { emit s(1) ^}", "proc p() { ^else {} }", "proc p() { let x = 1 + ^'a", "proc p() { ^!", "proc p() { ^999999999999999999999; }"} {
@@ -117,8 +117,8 @@ func TestParseErrors(t *testing.T) {
 			return at, e
 		})
 	}
-	for _, s := range []string{"^", "a ^b", "a = b ^= c", "a < b ^!= c", "a and^", "a or ^or b", "a = ^not b", "a + ^not b", "-^", "(a^", "(a ^b)", "(^)", "a.^", "a.^1", "a.^in", "a.b^.c", "^where", "^int", "1 ^'a'", "count^", "count ^+ 1", "count(^1 in t)", "count(r ^t)",
-		"count(r in ^from)", "count(r in t ^: 1)", "count(r in t where ^)", "sum(r in t^)", "sum(r in t where a ^)", "sum(r in t: ^)", "max(r in t: 1 ^: 2)", "count(^)", "not^", "^)", "a ^:", "a ^limit", "^=", "a =^"} {
+	for _, s := range []string{"^", "a ^b", "a = b ^= c", "a < b ^!= c", "a and^", "a or ^or b", "a = ^not b", "a + ^not b", "-^", "(a^", "(a ^b)", "(^)", "a.^", "a.^1", "a.b^.c", "1 ^'a'", "count^", "count ^+ 1", "count(^1 in t)", "count(r ^t)",
+		"count(r in t ^: 1)", "count(r in t where ^)", "sum(r in t^)", "sum(r in t where a ^)", "sum(r in t: ^)", "max(r in t: 1 ^: 2)", "count(^)", "not^", "^)", "a ^:", "a ^limit", "^=", "a =^"} {
 		check(t, s, func(s string) (int, api.Errno) {
 			_, at, e := Expr(s)
 			return at, e
@@ -126,6 +126,27 @@ func TestParseErrors(t *testing.T) {
 	}
 	if _, at, e := Proc(strings.Repeat(" ", 8001)); at != 0 || e != api.ErrLong {
 		t.Error("too long")
+	}
+}
+
+// P13.1: a reserved word is no name (12)
+func TestReservedWords(t *testing.T) {
+	for _, s := range []string{"proc ^if() {}", "proc p(x ^key) {}", "proc p() { let ^true = 1; }"} {
+		check(t, s, func(s string) (int, api.Errno) {
+			_, at, e := Proc(s)
+			return at, e
+		})
+	}
+	for _, s := range []string{"a.^in", "^where", "^int", "count(r in ^from)"} {
+		check(t, s, func(s string) (int, api.Errno) {
+			_, at, e := Expr(s)
+			return at, e
+		})
+	}
+	l, _, _ := lex.Words("proc p() { let if = 1; }")
+	c := lex.On(l, 24)
+	if _, ok := Body(c); ok || c.Left() != 5 {
+		t.Error("Body", c.Left())
 	}
 }
 
@@ -188,7 +209,6 @@ func TestBody(t *testing.T) {
 		"":                       {false, 0},
 		"proc p(x int) { reply " + strings.Repeat("(", 59) + "a b": {false, 1},
 		"proc p(x int) { reply " + strings.Repeat("(", 60) + "a b": {false, 2},
-		"proc p() { let if = 1; }":                                 {false, 4 + 1},
 	} {
 		l, _, _ := lex.Words(s)
 		cursor := lex.On(l, len(s))
